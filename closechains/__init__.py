@@ -1,0 +1,1 @@
+"""Closechains: chains of fractions that close from every start, or never."""

@@ -1,0 +1,83 @@
+"""The interface: its names, arguments and files, and the examples of the document."""
+
+import ast
+import doctest
+import inspect
+import unittest
+from importlib import import_module
+from pathlib import Path
+
+ROOT = Path(__file__).resolve().parent.parent
+
+FUNCTIONS = {
+    "points": {"is_point": ["value"], "lowest": ["top", "bottom"], "sorted_points": ["points"]},
+    "relations": {"holds": ["relation", "first", "second"], "partners": ["relation", "point"],
+                  "quartic": ["relation"]},
+}
+CLASSES = {
+    "errors": {name: ["value"] for name in [
+        "ChainError", "InvalidNumber", "InvalidPoint", "Bent", "NotPair", "NotOne", "InvalidPrime",
+        "TooFar", "NothingToUndo", "Unreadable"]},
+    "relations": {"Relation": ["numbers"]},
+}
+EXAMPLES = """
+>>> from closechains.points import is_point, lowest, sorted_points
+>>> [is_point((3, 2)), is_point((2, 4)), is_point((1, 0)), is_point((0, 1)), is_point([1, 2])]
+[True, False, True, True, False]
+>>> [lowest(6, -4), lowest(-5, 0), sorted_points([(1, 0), (1, 2), (-7, 1), (1, 3)])]
+[(-3, 2), (1, 0), [(-7, 1), (1, 3), (1, 2), (1, 0)]]
+
+>>> from closechains.relations import Relation, holds, partners, quartic
+>>> square = Relation([1, 0, 1, -5, 0, 1])
+>>> free = Relation([1, 0, 0, 2, -1, 1])
+>>> [Relation([0, -2, -2, 18, -4, -2]).numbers, holds(square, (1, 1), (2, 1))]
+[[0, 1, 1, -9, 2, 1], True]
+>>> [partners(square, (1, 1)), partners(free, (1, 0)), partners(square, (0, 1)), quartic(square)]
+[[(1, 2), (2, 1)], [(0, 1)], [], [-4, 0, 17, 0, -4]]
+"""
+
+
+def defined_in(name, kind):
+    tree = ast.parse((ROOT / "closechains" / f"{name}.py").read_text(encoding="ascii"))
+    return {node.name: node for node in tree.body if isinstance(node, kind)}
+
+
+class InterfaceTest(unittest.TestCase):
+    def test_functions(self):
+        for name, functions in FUNCTIONS.items():
+            module = import_module(f"closechains.{name}")
+            for function, wanted in functions.items():
+                self.assertIn(function, defined_in(name, ast.FunctionDef))
+                self.assertEqual(self.arguments(getattr(module, function)), wanted)
+
+    def test_classes(self):
+        for name, classes in CLASSES.items():
+            module = import_module(f"closechains.{name}")
+            for kind, wanted in classes.items():
+                self.assertIn(kind, defined_in(name, ast.ClassDef))
+                self.assertEqual(self.arguments(getattr(module, kind)), wanted)
+
+    def arguments(self, called):
+        told = inspect.signature(called).parameters.values()
+        for parameter in told:
+            self.assertEqual(parameter.kind, parameter.POSITIONAL_OR_KEYWORD)
+            self.assertIs(parameter.default, parameter.empty)
+        return [parameter.name for parameter in told]
+
+    def test_numbers_is_a_property_of_relation_itself(self):
+        module = import_module("closechains.relations")
+        self.assertIsInstance(vars(module.Relation)["numbers"], property)
+        self.assertIn("__eq__", vars(module.Relation))
+
+    def test_examples_of_the_document(self):
+        self.check_examples(EXAMPLES, 7)
+
+    def test_examples_of_the_readme(self):
+        self.check_examples((ROOT / "README.md").read_text(encoding="ascii"), 8)
+
+    def check_examples(self, text, least):
+        examples = doctest.DocTestParser().get_doctest(text, {}, "examples", None, 0)
+        said = []
+        result = doctest.DocTestRunner(verbose=False).run(examples, out=said.append)
+        self.assertEqual(result.failed, 0, "".join(said))
+        self.assertGreaterEqual(result.attempted, least)
