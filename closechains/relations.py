@@ -2,7 +2,7 @@
 
 from math import isqrt
 
-from closechains.errors import Bent, InvalidNumber
+from closechains.errors import Bent, InvalidNumber, NotPair
 from closechains.points import ENDLESS, check_point, lowest, sorted_points, without_divisor
 
 
@@ -37,12 +37,18 @@ def quartic_of(numbers):
     ]
 
 
-def bend(quartic_numbers):
-    """Return 4*I*I*I - J*J of D4 to D0: 0 for bent relations, and for them alone."""
+def invariants(quartic_numbers):
+    """Return I and J of D4 to D0."""
     d4, d3, d2, d1, d0 = quartic_numbers
     i = 12 * d4 * d0 - 3 * d3 * d1 + d2 * d2
     j = (72 * d4 * d2 * d0 + 9 * d3 * d2 * d1
          - 27 * d4 * d1 * d1 - 27 * d3 * d3 * d0 - 2 * d2 * d2 * d2)
+    return (i, j)
+
+
+def bend(quartic_numbers):
+    """Return 4*I*I*I - J*J of D4 to D0: 0 for bent relations, and for them alone."""
+    i, j = invariants(quartic_numbers)
     return 4 * i * i * i - j * j
 
 
@@ -70,6 +76,12 @@ def holds(relation, first, second):
     a, b, c = partner_equation(relation.numbers, first)
     top, bottom = second
     return a * top * top + b * top * bottom + c * bottom * bottom == 0
+
+
+def check_pair(relation, first, second):
+    """Raise an error unless two tuples are points that have a relation."""
+    if not holds(relation, first, second):
+        raise NotPair((first, second))
 
 
 def partners(relation, point):

@@ -13,6 +13,11 @@ FUNCTIONS = {
     "points": {"is_point": ["value"], "lowest": ["top", "bottom"], "sorted_points": ["points"]},
     "relations": {"holds": ["relation", "first", "second"], "partners": ["relation", "point"],
                   "quartic": ["relation"]},
+    "chains": {"following": ["relation", "first", "second"],
+               "chain": ["relation", "first", "second", "length"],
+               "member": ["relation", "first", "second", "index"]},
+    "closing": {"closing": ["relation"], "closes_after": ["relation", "number"]},
+    "steps": {"step_numbers": ["relation", "number"], "is_doubled": ["relation", "number"]},
 }
 CLASSES = {
     "errors": {name: ["value"] for name in [
@@ -34,6 +39,24 @@ EXAMPLES = """
 [[0, 1, 1, -9, 2, 1], True]
 >>> [partners(square, (1, 1)), partners(free, (1, 0)), partners(square, (0, 1)), quartic(square)]
 [[(1, 2), (2, 1)], [(0, 1)], [], [-4, 0, 17, 0, -4]]
+
+>>> from closechains.chains import chain, following, member
+>>> [following(free, (1, 0), (0, 1)), chain(free, (1, 0), (0, 1), 7), member(free, (1, 0), (0, 1), 5)]
+[(1, 1), [(1, 0), (0, 1), (1, 1), (-1, 1), (2, 1), (1, 4), (6, 1)], (1, 4)]
+>>> five = Relation([0, 1, 1, -9, 2, 1])
+>>> [member(square, (1, 1), (2, 1), -1), chain(five, (1, 1), (1, 1), 7)]
+[(1, 2), [(1, 1), (1, 1), (2, 1), (3, 1), (2, 1), (1, 1), (1, 1)]]
+
+>>> from closechains.closing import closes_after, closing
+>>> from closechains.steps import is_doubled, step_numbers
+>>> [closing(square), closing(free), closing(five), closing(Relation([0, 2, 0, -7, 0, 2]))]
+[4, None, 5, 3]
+>>> [closing(Relation([1, 0, 0, -4, -16, 64])), closes_after(square, 8), closes_after(free, 10 ** 30)]
+[7, True, False]
+>>> [step_numbers(square, 2), step_numbers(square, 1), step_numbers(square, 4)]
+[[1, 0, 0, -2, 0, 1], [1, 0, 1, -5, 0, 1], [0, 0, 1, -2, 0, 0]]
+>>> [is_doubled(square, 2), is_doubled(square, 1)]
+[True, False]
 """
 
 
@@ -70,10 +93,10 @@ class InterfaceTest(unittest.TestCase):
         self.assertIn("__eq__", vars(module.Relation))
 
     def test_examples_of_the_document(self):
-        self.check_examples(EXAMPLES, 7)
+        self.check_examples(EXAMPLES, 17)
 
     def test_examples_of_the_readme(self):
-        self.check_examples((ROOT / "README.md").read_text(encoding="ascii"), 8)
+        self.check_examples((ROOT / "README.md").read_text(encoding="ascii"), 16)
 
     def check_examples(self, text, least):
         examples = doctest.DocTestParser().get_doctest(text, {}, "examples", None, 0)

@@ -72,3 +72,36 @@ class LanguageTest(unittest.TestCase):
             # A doctest that ran earlier leaves its last value there as "_".
             if node.id != "_" and hasattr(builtins, node.id):
                 self.assertIn(node.id, BUILTINS | DECORATORS, (name, node.lineno))
+
+    def test_no_imports_in_a_circle(self):
+        needed = {name[:-3]: set() for name, _ in self.trees()}
+        for name, node in self.nodes(ast.ImportFrom):
+            if node.module.startswith("closechains."):
+                needed[name[:-3]].add(node.module.split(".")[1])
+        while needed:
+            free = [name for name, others in needed.items() if not others & set(needed)]
+            self.assertTrue(free, needed)
+            needed = {name: others for name, others in needed.items() if name not in free}
+
+    def test_names_of_imports_and_definitions_are_kept(self):
+        for name, tree in self.trees():
+            bound = [alias.name for node in tree.body if isinstance(node, ast.ImportFrom)
+                     for alias in node.names]
+            bound += [node.name for node in tree.body if isinstance(node, (ast.FunctionDef, ast.ClassDef))]
+            self.assertEqual(len(bound), len(set(bound)), name)
+            for node in ast.walk(tree):
+                if isinstance(node, ast.arg):
+                    self.assertNotIn(node.arg, bound, (name, node.lineno))
+                if isinstance(node, ast.Name) and isinstance(node.ctx, ast.Store):
+                    self.assertNotIn(node.id, bound, (name, node.lineno))
+
+    def test_imports_are_used_and_come_from_where_they_are_defined(self):
+        trees = dict(self.trees())
+        for name, node in self.nodes(ast.ImportFrom):
+            used = {other.id for other in ast.walk(trees[name]) if isinstance(other, ast.Name)}
+            for alias in node.names:
+                self.assertIn(alias.name, used, name)
+                if node.module not in LIBRARY:
+                    told = trees[node.module.split(".")[1] + ".py"].body
+                    self.assertIn(alias.name, [getattr(one, "name", None) for one in told]
+                                  + [one.targets[0].id for one in told if isinstance(one, ast.Assign)])

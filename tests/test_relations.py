@@ -7,23 +7,13 @@ from itertools import product
 from closechains.errors import Bent, InvalidNumber, InvalidPoint
 from closechains.points import is_point, sorted_points
 from closechains.relations import Relation, holds, partners, quartic
+from tests.helper import FIVE, FREE, SQUARE, great_relation, told_sum
 
-SQUARE = [1, 0, 1, -5, 0, 1]
-FREE = [1, 0, 0, 2, -1, 1]
-FIVE = [0, 1, 1, -9, 2, 1]
 UNLIKE = [SQUARE, FREE, FIVE, [0, 2, 0, -7, 0, 2], [1, 0, 0, -4, -16, 64], [3, -2, 5, 7, -1, 4],
           [1, 1, 0, 1, 0, 1], [0, 1, 0, 0, 1, 1], [2, 0, -3, 0, 0, 5], [0, 1, -1, 1, 1, 0]]
 POINTS = [(1, 0)] + [(top, bottom) for bottom in range(1, 7) for top in range(-12, 13)
                      if is_point((top, bottom))]
 WRONG = [(2, 4), (0, 0), (-1, 0), (3, -2), (0, 2)]
-
-
-def told_sum(numbers, first, second):
-    """The sum of promise [5], as it stands there."""
-    a, b, c, d, e, f = numbers
-    (p, q), (r, s) = first, second
-    return (a*p*p*r*r + b*p*r*(p*s + r*q) + c*(p*p*s*s + r*r*q*q) + d*p*q*r*s
-            + e*q*s*(p*s + r*q) + f*q*q*s*s)
 
 
 def times(one, other):
@@ -40,11 +30,6 @@ def told_quartic(numbers):
     middle = times([b, d, e], [b, d, e])
     ends = times([a, b, c], [c, e, f])
     return [x - 4 * y for x, y in zip(middle, ends)]
-
-
-def great_relation(k):
-    """A relation whose chain from 1 and k goes on to 2 - 1 / k."""
-    return Relation([0, 1, 0, -k - 3, 1, k - 1])
 
 
 def trimmed(polynomial):
@@ -223,7 +208,7 @@ class HoldsTest(unittest.TestCase):
 
     def test_great_numbers(self):
         for k in [10 ** 6, 10 ** 29]:
-            relation = great_relation(k)
+            relation = Relation(great_relation(k))
             for first, second, wanted in [
                     ((1, 1), (k, 1), True), ((k, 1), (1, 1), True), ((k, 1), (2 * k - 1, k), True),
                     ((2 * k - 1, k), (k, 1), True), ((k, 1), (2 * k + 1, k), False),
@@ -288,7 +273,7 @@ class PartnersTest(unittest.TestCase):
 
     def test_great_numbers(self):
         for k in [10 ** 6, 10 ** 29]:
-            relation = great_relation(k)
+            relation = Relation(great_relation(k))
             self.assertEqual(partners(relation, (1, 1)), [(1, 1), (k, 1)])
             self.assertEqual(partners(relation, (k, 1)), [(1, 1), (2 * k - 1, k)])
             self.assertEqual(partners(relation, (2 * k - 1, k)),
