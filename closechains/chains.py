@@ -36,10 +36,16 @@ def _members(numbers, first, second, length):
 
 
 def _other_partner(numbers, point, known):
+    top, bottom = other_root(numbers, point, known)
+    return lowest(top, bottom)
+
+
+def other_root(numbers, point, known):
+    """Return top and bottom of the other partner of a point than a known one, not yet lowest."""
     # By the sum and the product of the roots no square root is needed, and a double
-    # root is told again. lowest never gets two zeros, as A, B and C are never all 0.
+    # root is told again. The two are never both 0, as A, B and C are never all 0.
     a, b, c = partner_equation(numbers, point)
     top, bottom = known
     if bottom == 0:
-        return lowest(-c, b)
-    return lowest(-b * bottom - a * top, a * bottom)
+        return (-c, b)
+    return (-b * bottom - a * top, a * bottom)

@@ -105,6 +105,34 @@ def moved_back(point, move):
     return (top // divisor, bottom // divisor)
 
 
+def adjugate(rows):
+    """The matrix of the cofactors of a symmetric one of three rows."""
+    def cofactor(i, j):
+        (a, b), (c, d) = [[x for k, x in enumerate(row) if k != j] for h, row in enumerate(rows) if h != i]
+        return (-1) ** (i + j) * (a * d - b * c)
+    return [[cofactor(i, j) for j in range(3)] for i in range(3)]
+
+
+def side_matrix(numbers):
+    """Twice the quadratic form, of the A, B, C of lines, that is 0 for all sides."""
+    a, b, c, d, e, f = numbers
+    return [[2 * c, -e, -b], [-e, 2 * f, d - 2 * c], [-b, d - 2 * c, 2 * a]]
+
+
+def relation_beside(numbers, k):
+    """Numbers of another relation with the same roots of D.
+
+    The curve that the sides touch meets the curve Y = X*X of the corners at the roots of D.
+    So does the sum of the first curve and k times the second one, which other sides touch.
+    """
+    beside = adjugate(side_matrix(numbers))
+    for (i, j), x in {(0, 0): 2, (1, 2): -1, (2, 1): -1}.items():
+        beside[i][j] += k * x
+    rows = adjugate(beside)
+    c, e, b = rows[0][0], -2 * rows[0][1], -2 * rows[0][2]
+    return primitive([rows[2][2], b, c, 2 * rows[1][2] + 2 * c, e, rows[1][1]])
+
+
 def is_square(fraction):
     top, bottom = fraction.numerator, fraction.denominator
     return top >= 0 and isqrt(top) ** 2 == top and isqrt(bottom) ** 2 == bottom

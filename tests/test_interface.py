@@ -18,6 +18,12 @@ FUNCTIONS = {
                "member": ["relation", "first", "second", "index"]},
     "closing": {"closing": ["relation"], "closes_after": ["relation", "number"]},
     "steps": {"step_numbers": ["relation", "number"], "is_doubled": ["relation", "number"]},
+    "exchange": {"are_exchanged": ["relation", "other"],
+                 "meetings": ["relation", "other", "first", "second"]},
+    "through": {"free_numbers": ["pairs"], "through": ["pairs"]},
+    "primes": {"reduced": ["point", "prime"], "pairs_modulo": ["relation", "prime"],
+               "rounds_modulo": ["relation", "prime"],
+               "member_modulo": ["relation", "prime", "first", "second", "index"]},
 }
 CLASSES = {
     "errors": {name: ["value"] for name in [
@@ -57,6 +63,24 @@ EXAMPLES = """
 [[1, 0, 0, -2, 0, 1], [1, 0, 1, -5, 0, 1], [0, 0, 1, -2, 0, 0]]
 >>> [is_doubled(square, 2), is_doubled(square, 1)]
 [True, False]
+
+>>> from closechains.exchange import are_exchanged, meetings
+>>> [are_exchanged(square, square), are_exchanged(square, free)]
+[True, False]
+>>> [meetings(square, square, (1, 1), (1, 1)), meetings(square, free, (1, 1), (1, 1))]
+[[(1, 2), (2, 1)], []]
+
+>>> from closechains.through import free_numbers, through
+>>> through([((1, 0), (0, 1)), ((0, 1), (1, 1)), ((1, 1), (-1, 1)), ((-1, 1), (2, 1)), ((2, 1), (1, 4))]).numbers
+[1, 0, 0, 2, -1, 1]
+>>> [free_numbers([((1, 1), (1, 1)), ((1, 1), (2, 1)), ((2, 1), (1, 1))]), free_numbers([])]
+[4, 6]
+
+>>> from closechains.primes import member_modulo, pairs_modulo, reduced, rounds_modulo
+>>> [reduced((1, 4), 7), reduced((1, 0), 7), pairs_modulo(square, 7)]
+[2, 7, [(1, 2), (1, 4), (2, 1), (3, 6), (4, 1), (5, 6), (6, 3), (6, 5)]]
+>>> [rounds_modulo(square, 7), member_modulo(square, 7, 1, 2, 3), member_modulo(square, 7, 1, 2, 10 ** 30)]
+[(4, 2), 4, 1]
 """
 
 
@@ -93,10 +117,10 @@ class InterfaceTest(unittest.TestCase):
         self.assertIn("__eq__", vars(module.Relation))
 
     def test_examples_of_the_document(self):
-        self.check_examples(EXAMPLES, 17)
+        self.check_examples(EXAMPLES, 25)
 
     def test_examples_of_the_readme(self):
-        self.check_examples((ROOT / "README.md").read_text(encoding="ascii"), 16)
+        self.check_examples((ROOT / "README.md").read_text(encoding="ascii"), 25)
 
     def check_examples(self, text, least):
         examples = doctest.DocTestParser().get_doctest(text, {}, "examples", None, 0)
