@@ -27,7 +27,7 @@ def rounds_modulo(relation, prime):
     """Return the tuple of the steps after which chains modulo a prime close, and of the rounds."""
     numbers = _checked_numbers(relation, prime)
     pairs = _pairs(numbers, prime)
-    # There is a first one: by Hasse's theorem pairs are (p - 2 * root of p + 1) or more.
+    # There always is a first one: by Hasse's theorem pairs are p + 1 - 2 * root of p or more.
     length = len(_members_of_round(numbers, prime, pairs[0]))
     return (length, len(pairs) // length)
 

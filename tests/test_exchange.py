@@ -113,11 +113,12 @@ class AreExchangedTest(unittest.TestCase):
     def test_one_of_five_numbers_is_another_one(self):
         unlike = []
         square = quartic(Relation(SQUARE))
-        for numbers in [[1, 0, 1, -6, 0, 1], [1, 0, 1, 1, 0, -5], [-5, 0, 1, 1, 0, 1]]:
+        for numbers in [[1, 0, 1, -6, 0, 1], [1, 0, 1, 1, 0, -5], [-5, 0, 1, 1, 0, 1],
+                        [7, 0, 1, 7, 0, 1], [1, 0, 1, -7, 0, 7]]:
             other = Relation(numbers)
             unlike.append([k for k in range(5) if quartic(other)[k] != square[k]])
             self.check(Relation(SQUARE), other, False)
-        self.assertEqual(unlike, [[2], [4], [0]])
+        self.assertEqual(unlike, [[2], [4], [0], [0], [4]])
 
     def test_moved_relations(self):
         for move in MOVES:

@@ -24,13 +24,21 @@ FUNCTIONS = {
     "primes": {"reduced": ["point", "prime"], "pairs_modulo": ["relation", "prime"],
                "rounds_modulo": ["relation", "prime"],
                "member_modulo": ["relation", "prime", "first", "second", "index"]},
+    "polygons": {"side": ["first", "second"], "touched": ["relation"],
+                 "touching": ["relation", "first", "second"]},
+    "texts": {"show_relation": ["relation"], "show_point": ["point"]},
+    "readings": {"read_relation": ["text"], "read_point": ["text"]},
 }
 CLASSES = {
     "errors": {name: ["value"] for name in [
         "ChainError", "InvalidNumber", "InvalidPoint", "Bent", "NotPair", "NotOne", "InvalidPrime",
         "TooFar", "NothingToUndo", "Unreadable"]},
     "relations": {"Relation": ["numbers"]},
+    "walks": {"Walk": ["relation", "first", "second"], "ShortWalk": ["relation", "first", "second", "most"]},
 }
+PROPERTIES = {("relations", "Relation"): ["numbers"], ("walks", "Walk"): ["place", "pair"]}
+METHODS = {("relations", "Relation"): ["__eq__"], ("walks", "ShortWalk"): ["on", "back"],
+           ("walks", "Walk"): ["on", "back", "undo", "story", "__len__", "__eq__"]}
 EXAMPLES = """
 >>> from closechains.points import is_point, lowest, sorted_points
 >>> [is_point((3, 2)), is_point((2, 4)), is_point((1, 0)), is_point((0, 1)), is_point([1, 2])]
@@ -81,6 +89,28 @@ EXAMPLES = """
 [2, 7, [(1, 2), (1, 4), (2, 1), (3, 6), (4, 1), (5, 6), (6, 3), (6, 5)]]
 >>> [rounds_modulo(square, 7), member_modulo(square, 7, 1, 2, 3), member_modulo(square, 7, 1, 2, 10 ** 30)]
 [(4, 2), 4, 1]
+
+>>> from closechains.polygons import side, touched, touching
+>>> [side((1, 1), (2, 1)), side((1, 1), (1, 0)), side((1, 0), (1, 0)), touched(square)]
+[[3, -1, -2], [1, 0, -1], [0, 0, 1], [45, 0, -4, 0, -28, -4]]
+>>> touching(square, (1, 1), (2, 1))
+[2, 4, 1]
+
+>>> from closechains.walks import ShortWalk, Walk
+>>> walk = Walk(square, (1, 1), (2, 1))
+>>> [walk.on(), walk.pair, walk.on(), walk.pair, walk.place, walk.undo(), walk.back(), walk.back()]
+[None, ((2, 1), (1, 1)), None, ((1, 1), (1, 2)), 2, None, None, None]
+>>> [walk.pair, walk.place, walk.story(), len(walk), walk == ShortWalk(square, (1, 1), (2, 1), 9)]
+[((1, 2), (1, 1)), -1, ['on', 'back', 'back'], 3, False]
+
+>>> from closechains.readings import read_point, read_relation
+>>> from closechains.texts import show_point, show_relation
+>>> [show_relation(square), read_relation("1 0 1 -5 0 1") == square]
+['1 0 1 -5 0 1', True]
+>>> [show_point(point) for point in [(-3, 2), (-42, 1), (1, 0)]]
+['-3/2', '-42', 'endless']
+>>> [read_point(text) for text in ["3/2", "0", "endless"]]
+[(3, 2), (0, 1), (1, 0)]
 """
 
 
@@ -111,16 +141,23 @@ class InterfaceTest(unittest.TestCase):
             self.assertIs(parameter.default, parameter.empty)
         return [parameter.name for parameter in told]
 
-    def test_numbers_is_a_property_of_relation_itself(self):
-        module = import_module("closechains.relations")
-        self.assertIsInstance(vars(module.Relation)["numbers"], property)
-        self.assertIn("__eq__", vars(module.Relation))
+    def test_properties_and_methods_of_the_classes_themselves(self):
+        for (name, kind), wanted in PROPERTIES.items():
+            for told in wanted:
+                self.assertIsInstance(self.own(name, kind)[told], property)
+        for (name, kind), wanted in METHODS.items():
+            for told in wanted:
+                parameters = list(inspect.signature(self.own(name, kind)[told]).parameters)
+                self.assertEqual(parameters, ["self", "other"] if told == "__eq__" else ["self"])
+
+    def own(self, name, kind):
+        return vars(getattr(import_module(f"closechains.{name}"), kind))
 
     def test_examples_of_the_document(self):
-        self.check_examples(EXAMPLES, 25)
+        self.check_examples(EXAMPLES, 36)
 
     def test_examples_of_the_readme(self):
-        self.check_examples((ROOT / "README.md").read_text(encoding="ascii"), 25)
+        self.check_examples((ROOT / "README.md").read_text(encoding="ascii"), 45)
 
     def check_examples(self, text, least):
         examples = doctest.DocTestParser().get_doctest(text, {}, "examples", None, 0)

@@ -60,6 +60,15 @@ class LanguageTest(unittest.TestCase):
         for name, node in self.nodes(ast.Constant):
             self.assertNotIsInstance(node.value, (float, complex), name)
 
+    def test_stars_in_calls_and_what_an_own_equality_bars(self):
+        for name, node in self.nodes(ast.GeneratorExp):
+            self.fail(f"{name}:{node.lineno} a list is needed here")
+        for name, node in self.nodes(ast.Call):
+            self.assertNotIn(getattr(node.func, "attr", None), ["sort", "format"], (name, node.lineno))
+            for argument in node.args:
+                if isinstance(argument, ast.Starred):
+                    self.assertIsInstance(argument.value, ast.Name, (name, node.lineno))
+
     def test_decorators_and_double_underscores(self):
         for name, node in self.nodes(ast.FunctionDef):
             for decorator in node.decorator_list:
